@@ -1,0 +1,1 @@
+"""Values, rows and keys."""
