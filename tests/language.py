@@ -177,11 +177,8 @@ def faults_of_node(path, node, documented, own):
             yield f"{where}: L27: an exponent that is not written out"
     if isinstance(node, ast.Compare):
         for sign, other in zip(node.ops, node.comparators):
-            if isinstance(sign, (ast.Is, ast.IsNot)) and not isinstance(other, (ast.Constant, ast.Name)):
+            if isinstance(sign, (ast.Is, ast.IsNot)) and ast.unparse(other) not in ("None", "True", "False"):
                 yield f"{where}: L20: is"
-            if isinstance(sign, (ast.Is, ast.IsNot)) and isinstance(other, ast.Constant):
-                if not any(other.value is value for value in (None, True, False)):
-                    yield f"{where}: L20: is"
     if isinstance(node, ast.Attribute):
         if node.attr in NEVER or node.attr in ("format_map", "args", "encode", "decode", "hex"):
             yield f"{where}: L17 or L26: .{node.attr}"
@@ -191,8 +188,6 @@ def faults_of_node(path, node, documented, own):
         yield f"{path}: L24: a set is iterated"
     if isinstance(node, ast.ExceptHandler) and node.type is None:
         yield f"{where}: L6: except without a class"
-    if isinstance(node, (ast.Await, ast.Yield)) and isinstance(node, ast.Await):
-        yield f"{where}: L6: await"
 
 
 def faults_of_definition(where, node):

@@ -14,6 +14,12 @@ LISTED = {
     "values/keys.py": "key_of(row,fields,columns) hash_of(values) group_of(values)",
     "flows/flows.py": "flow_of(moves) sum_flows(flows) turned(flow) part_of(flow,above,up_to) table_at(flow,time) "
                       "check_flow(flow,fields)",
+    "flows/tables.py": "table_of(pairs) tables_of(flow) changes_of(tables) is_lawful(flow) is_events(flow)",
+    "flows/logs.py": "mark_behind(entries) late_indexes(entries) flow_of_partition(entries) "
+                     "flow_of_source(partitions) mark_of_source(partitions) check_logs(logs,sources)",
+    "expressions/checking.py": "type_of(expression,fields)",
+    "expressions/evaluating.py": "evaluate(expression,fields,row)",
+    "expressions/trees.py": "columns_of(expression) substituted(expression,mapping)",
 }
 
 
