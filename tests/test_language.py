@@ -20,6 +20,20 @@ LISTED = {
     "expressions/checking.py": "type_of(expression,fields)",
     "expressions/evaluating.py": "evaluate(expression,fields,row)",
     "expressions/trees.py": "columns_of(expression) substituted(expression,mapping)",
+    "operators/checks.py": "sides_of(operator) check_operator(operator,inputs)",
+    "operators/aggregates.py": "aggregate(word,values)",
+    "operators/windows.py": "windows_of(window,times)",
+    "operators/define.py": "define(operator,fields,flows)",
+    "handles/states.py": "binding_columns(operator,fields) kept_of(operator,fields,flows,mark) "
+                         "state_of(operator,fields,flows,mark) "
+                         "split_state(operator,fields,columns,state,groups) join_states(operator,states)",
+    "handles/handle.py": "Handle",
+}
+# The methods of the classes; a property stands without arguments.
+METHODS = {
+    "handles/handle.py": "Handle.__init__(self,operator,fields) Handle.mark Handle.put(self,side,flow) "
+                         "Handle.advance(self,mark) Handle.state(self) Handle.fork(self) "
+                         "Handle.resumed(cls,operator,fields,state)",
 }
 
 
@@ -35,6 +49,20 @@ class Language(unittest.TestCase):
                     defined[node.name] = None
                 if isinstance(node, ast.FunctionDef):
                     defined[node.name] = ",".join(argument.arg for argument in node.args.args)
+            for item in listed.split():
+                name, _, arguments = item.partition("(")
+                self.assertIn(name, defined, file)
+                self.assertEqual(defined[name], arguments[:-1] if arguments else None, file + " " + name)
+
+    def test_each_method_of_the_interface_is_defined_in_its_class(self):
+        for file, listed in METHODS.items():
+            defined = {}
+            for node in ast.parse((ROOT / file).read_text(encoding="utf-8")).body:
+                if isinstance(node, ast.ClassDef):
+                    for method in [inner for inner in node.body if isinstance(inner, ast.FunctionDef)]:
+                        is_property = "property" in [ast.unparse(one) for one in method.decorator_list]
+                        defined[node.name + "." + method.name] = (
+                            None if is_property else ",".join(argument.arg for argument in method.args.args))
             for item in listed.split():
                 name, _, arguments = item.partition("(")
                 self.assertIn(name, defined, file)

@@ -1,0 +1,1 @@
+"""Handles: operators that take their inputs in pieces, and their states."""

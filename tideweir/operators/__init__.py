@@ -1,0 +1,1 @@
+"""Operators: their checks, and the output that they define."""
