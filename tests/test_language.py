@@ -28,12 +28,21 @@ LISTED = {
                          "state_of(operator,fields,flows,mark) "
                          "split_state(operator,fields,columns,state,groups) join_states(operator,states)",
     "handles/handle.py": "Handle",
+    "plans/plans.py": "check_plan(plan) fields_of(plan) sources_of(plan) meanings(plan,flows) meaning(plan,flows)",
+    "plans/tidying.py": "tidied(plan) is_tidy(plan)",
+    "plans/rules.py": "apply_rule(plan,rule,node) steps_of(plan) check_certificate(plan,steps,to)",
+    "plans/costs.py": "guesses(plan,stats) cost(plan,stats) Search",
+    "tasks/task.py": "Task",
 }
 # The methods of the classes; a property stands without arguments.
 METHODS = {
     "handles/handle.py": "Handle.__init__(self,operator,fields) Handle.mark Handle.put(self,side,flow) "
                          "Handle.advance(self,mark) Handle.state(self) Handle.fork(self) "
                          "Handle.resumed(cls,operator,fields,state)",
+    "plans/costs.py": "Search.__init__(self,plan,stats) Search.best Search.least Search.seen Search.steps(self) "
+                      "Search.__iter__(self)",
+    "tasks/task.py": "Task.__init__(self,operator,fields,sides) Task.mark Task.marks Task.put(self,channel,parcel) "
+                     "Task.state(self) Task.fork(self) Task.resumed(cls,operator,fields,sides,state)",
 }
 
 

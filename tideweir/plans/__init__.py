@@ -1,0 +1,1 @@
+"""Plans of operators: their meaning, and other plans of the same meaning."""

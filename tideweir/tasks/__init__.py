@@ -1,0 +1,1 @@
+"""Tasks: operators that get parcels through channels."""
