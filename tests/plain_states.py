@@ -70,3 +70,13 @@ def plain_split(operator, fields, columns, state, groups):
     return (mark, [[move for move in flow if lies_there(side, move[1])] for side, flow in enumerate(pending)],
             [[item for item in items if lies_there(side, item[row_at])]
              for side, items in zip(SIDES_OF_KEPT.get(operator[0], (0,)), kept)])
+
+
+def plain_binding(operator, fields):
+    """The columns that bind the sides of an operator, or None."""
+    word = operator[0]
+    if word in ("source", "sink", "filter", "map", "union"):
+        return None
+    if word in ("near", "asof", "join"):
+        return [tuple(a for a, _ in operator[1]), tuple(b for _, b in operator[1])]
+    return [tuple(name for name, _ in fields[0]) if word == "distinct" else operator[1]]

@@ -33,7 +33,17 @@ LISTED = {
     "plans/rules.py": "apply_rule(plan,rule,node) steps_of(plan) check_certificate(plan,steps,to)",
     "plans/costs.py": "guesses(plan,stats) cost(plan,stats) Search",
     "tasks/task.py": "Task",
+    "graphs/graphs.py": "check_graph(graph) plan_of(graph) channels_of(graph) tasks_of(graph) lies_of(graph) "
+                        "owner_of(graph,stage,values) fields_at(graph,stage)",
+    "graphs/laying.py": "lay_out(plan,parallel) even_owners(parallel)",
+    "jobs/job.py": "Job",
+    "engines/engine.py": "Engine",
+    "shifts/owners.py": "owners_for(owners,parallel)",
 }
+# The methods of a job, all of which an engine has, too.
+OF_A_JOB = ("{0}.__init__(self,graph,logs,room) {0}.choices(self) {0}.task_marks(self) {0}.mark {0}.queues "
+            "{0}.progress {0}.late {0}.do(self,choice) {0}.run(self,numbers) {0}.rest(self) "
+            "{0}.append(self,source,partition,entries) {0}.output(self) {0}.states(self)")
 # The methods of the classes; a property stands without arguments.
 METHODS = {
     "handles/handle.py": "Handle.__init__(self,operator,fields) Handle.mark Handle.put(self,side,flow) "
@@ -43,6 +53,10 @@ METHODS = {
                       "Search.__iter__(self)",
     "tasks/task.py": "Task.__init__(self,operator,fields,sides) Task.mark Task.marks Task.put(self,channel,parcel) "
                      "Task.state(self) Task.fork(self) Task.resumed(cls,operator,fields,sides,state)",
+    "jobs/job.py": OF_A_JOB.format("Job"),
+    "engines/engine.py": OF_A_JOB.format("Engine") + " Engine.is_down Engine.trigger(self,how) Engine.crash(self) "
+                         "Engine.restore(self) Engine.committed(self) Engine.checkpoints "
+                         "Engine.checkpoint(self,number) Engine.status(self,number)",
 }
 
 

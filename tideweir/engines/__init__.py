@@ -1,0 +1,1 @@
+"""Jobs that can fail and go on."""

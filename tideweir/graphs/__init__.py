@@ -1,0 +1,1 @@
+"""Plans that are laid out over tasks."""

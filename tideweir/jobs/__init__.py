@@ -1,0 +1,1 @@
+"""Graphs at work on logs."""

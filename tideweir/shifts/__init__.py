@@ -1,0 +1,1 @@
+"""Engines that go on as other ones."""
