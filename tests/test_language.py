@@ -39,6 +39,13 @@ LISTED = {
     "jobs/job.py": "Job",
     "engines/engine.py": "Engine",
     "shifts/owners.py": "owners_for(owners,parallel)",
+    "shifts/rescaling.py": "rescale(graph,checkpoint,other) regraph(graph,parallel)",
+    "shifts/replanning.py": "replan(graph,checkpoint,logs,plan,parallel)",
+    "shifts/resuming.py": "resume(graph,logs,room,checkpoint,committed)",
+    "witnesses/places.py": "events_of(logs) only_these(logs,places) without_these(logs,places)",
+    "witnesses/reasons.py": "weight_of(plan,logs,time,row) tells(plan,logs,places,time,row) why(plan,logs,time,row) "
+                            "least_why(plan,logs,time,row) impact(plan,logs,place)",
+    "witnesses/audits.py": "Breach audit(plan,logs,flow,mark)",
 }
 # The methods of a job, all of which an engine has, too.
 OF_A_JOB = ("{0}.__init__(self,graph,logs,room) {0}.choices(self) {0}.task_marks(self) {0}.mark {0}.queues "

@@ -28,6 +28,18 @@ class Engine:
         self._sure = []
         self._sure_mark = -1
 
+    @classmethod
+    def resumed(cls, graph, logs, room, checkpoint, committed):
+        """Return an engine that goes on from a checkpoint, to whose flow committed that told there is added."""
+        engine = cls(graph, logs, room)
+        engine._last = checkpoint["number"]
+        engine._words = {engine._last: "committed"}
+        engine._kept = {engine._last: copy_of(checkpoint)}
+        engine._sure = sum_flows([committed, checkpoint["told"]])
+        engine._sure_mark = checkpoint["mark"]
+        engine._network.go_on_from(engine._kept[engine._last])
+        return engine
+
     @property
     def is_down(self):
         """Whether the engine is down."""

@@ -1,0 +1,1 @@
+"""What explains rows, and whether flows are right."""
