@@ -69,6 +69,7 @@ class Audits(ExactCase):
     def test_what_is_refused(self):
         self.refused(InvalidPlan, "no nodes", audit, (), {}, [], 5)
         self.refused(InvalidPlan, "node 0: inputs", audit, ((COUNT, (0,)),), {}, [], 5)
+        self.refused(InvalidPlan, "node 1: inputs", audit, (S, (COUNT, (1,))), {}, [], 5)
         self.refused(InvalidLogs, "there is no source s", audit, PLAN, {}, [], 5)
         self.refused(InvalidLogs, "s has other fields", audit, PLAN, {"s": [[], [("event", 1, ("a", "b"))]]}, [], 5)
 

@@ -211,6 +211,30 @@ class Why(ExactCase):
         self.because(plan, 1, (2, 2), "s01", "t00", "t01", logs=logs)
         self.because(plan, 1, (1, 1), "s00", logs=logs)
 
+    def test_two_values_for_a_column_that_would_be_left_out(self):
+        # No row of the group has two counts, so it is not asked at all, although it does not look at counts.
+        twice = ("map", (("x", ("column", "n")), ("y", ("column", "n"))))
+        other = ("map", (("x", ("column", "w")), ("y", ("length", ("column", "j")))))
+        logs = {"s": [events((1, A1), (1, A2))], "t": [events((1, ("j", 2)), (1, ("jj", 2)))]}
+        plan = (S, (COUNT, (0,)), (twice, (1,)), T, (other, (3,)), (("union",), (2, 4)))
+        self.because(plan, 1, (2, 1), "t00", "t01", logs=logs)
+        self.because(plan, 1, (2, 2), "s00", "s01", "t00", "t01", logs=logs)
+        plan = plan[:5] + ((("union",), (4, 2)),)
+        self.because(plan, 1, (2, 1), "t00", "t01", logs=logs)
+
+    def test_two_values_of_the_columns_of_a_pair(self):
+        # The join asks its sides for 1 and for 2 in the same column, and both of their answers are empty.
+        join = ("join", (("n", "m"),))
+        count = ("group", ("j",), (("m", "count", None),))
+        pair = ("map", (("x", ("column", "n")), ("y", ("column", "m"))))
+        other = ("map", (("x", ("column", "z")), ("y", ("column", "u"))))
+        third = (("source", "u", (("z", "whole"), ("u", "whole"))), ())
+        plan = (S, (COUNT, (0,)), T, (count, (2,)), (join, (1, 3)), (pair, (4,)), third, (other, (6,)),
+                (("union",), (5, 7)))
+        logs = {"s": [events((1, A1))], "t": [events((1, A1))], "u": [events((1, (1, 2)), (1, (1, 1)))]}
+        self.because(plan, 1, (1, 2), "u00", logs=logs)
+        self.because(plan, 1, (1, 1), "s00", "t00", "u01", logs=logs)
+
     def test_true_is_not_1(self):
         flags = (("source", "s", (("k", "flag"), ("v", "whole"))), ())
         logs = {"s": [events((1, (True, 1)), (1, (False, 0)), (1, (None, 0)), (1, (None, 1)))]}
@@ -308,6 +332,7 @@ class Impact(ExactCase):
 
     def test_what_is_refused(self):
         self.refused(InvalidPlan, "no nodes", impact, (), {}, ("s", 0, 0))
+        self.refused(InvalidPlan, "node 1: inputs", impact, (S, (COUNT, (1,))), {}, ("s", 0, 0))
         self.refused(InvalidLogs, "there is no source s", impact, (S,), {}, ("s", 0, 0))
         for place, told in ((("s", 0, 2), "s, 0, 2"), (("t", 0, 0), "t, 0, 0"), (("s", 1, 0), "s, 1, 0"),
                             (("x", 0, 0), "x, 0, 0"), (("s", 0, -1), "s, 0, -1")):

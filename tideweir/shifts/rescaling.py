@@ -55,13 +55,11 @@ def tasks_of_stage(wiring, stage, lies, states, marks):
 def parts_of_state(wiring, stage, lies, joined, marks):
     """Return the parts of the joined state of a stage, one for each of its tasks."""
     operator, parallel, owners = wiring.stages[stage]
-    if parallel == 1:
-        return [joined]
     if all(isinstance(lie, tuple) for lie in lies):
         columns = lies
         shares = [[group for group in range(GROUPS) if owners[group] == number] for number in range(parallel)]
     else:
-        # Nothing binds the rows to a task, but none may be at one whose mark they are not above.
+        # There is one task, or nothing binds the rows to one; but none may be where the mark has passed it.
         reached = [marks[(stage, number)] for number in range(parallel)]
         least = reached.index(min(reached))
         columns = [None for _ in lies]
