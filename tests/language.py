@@ -180,6 +180,8 @@ def faults_of_node(path, node, documented, own):
             if isinstance(sign, (ast.Is, ast.IsNot)) and ast.unparse(other) not in ("None", "True", "False"):
                 yield f"{where}: L20: is"
     if isinstance(node, ast.Attribute):
+        if isinstance(node.ctx, ast.Store) and not isinstance(node.value, ast.Name):
+            yield f"{where}: L18: an attribute that is not assigned through a local name"
         if node.attr in NEVER or node.attr in ("format_map", "args", "encode", "decode", "hex"):
             yield f"{where}: L17 or L26: .{node.attr}"
         if node.attr not in METHODS | own and not node.attr.startswith("__"):

@@ -235,6 +235,12 @@ class Why(ExactCase):
         self.because(plan, 1, (1, 2), "u00", logs=logs)
         self.because(plan, 1, (1, 1), "s00", "t00", "u01", logs=logs)
 
+    def test_nodes_that_are_asked_again_and_again(self):
+        doubled = (S,) + tuple((("union",), (node, node)) for node in range(15))
+        logs = {"s": [events(*[(1, ("a", number)) for number in range(300)], (1, A1))]}
+        self.same(weight_of(doubled, logs, 1, A1), 2 ** 16)
+        self.same(why(doubled, logs, 1, A1), [("s", 0, 1), ("s", 0, 300)])
+
     def test_true_is_not_1(self):
         flags = (("source", "s", (("k", "flag"), ("v", "whole"))), ())
         logs = {"s": [events((1, (True, 1)), (1, (False, 0)), (1, (None, 0)), (1, (None, 1)))]}

@@ -3,8 +3,7 @@
 from tideweir.engines.copies import copy_of
 from tideweir.engines.cut import Cut
 from tideweir.errors import EngineDown, EngineUp, InvalidChoice, UnderWay, UnknownCheckpoint
-from tideweir.flows.flows import part_of, sum_flows
-from tideweir.flows.logs import THE_END
+from tideweir.flows.flows import sum_flows
 from tideweir.jobs.network import BARRIER, Network, late_events_of, parcels_in, progress_of
 from tideweir.jobs.starting import append_entries, logs_for
 from tideweir.jobs.wiring import Wiring
@@ -129,7 +128,7 @@ class Engine:
         self._sure = sum_flows([self._sure, checkpoint["told"]])
         self._sure_mark = checkpoint["mark"]
         self._words[self._last] = "committed"
-        self._network.told = part_of(self._network.told, self._sure_mark, THE_END)
+        self._network.drop_told(self._sure_mark)
 
     def run(self, numbers):
         """Do a choice for each number, the one at its remainder; return how many were done. Raise EngineDown."""

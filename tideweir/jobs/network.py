@@ -1,7 +1,7 @@
 """Graphs at work: source tasks that read, tasks that send one another parcels, and the sink."""
 
-from tideweir.flows.flows import flow_of
-from tideweir.flows.logs import late_indexes
+from tideweir.flows.flows import flow_of, part_of
+from tideweir.flows.logs import THE_END, late_indexes
 from tideweir.jobs.reading import Reading
 from tideweir.plans.plans import is_source
 
@@ -103,6 +103,10 @@ class Network:
         """Put a barrier into all channels that lead from a task."""
         for channel in self.wiring.leading_from[task]:
             self.waiting[channel].append(BARRIER)
+
+    def drop_told(self, mark):
+        """Drop what the sink has told up to a mark."""
+        self.told = part_of(self.told, mark, THE_END)
 
     def marks_by_stages(self):
         """Return for each stage the list of the marks of its tasks."""

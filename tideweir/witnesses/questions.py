@@ -2,28 +2,33 @@
 
 from tideweir.operators.checks import sides_of
 from tideweir.plans.plans import is_source
-from tideweir.values.order import same_rows
+from tideweir.values.order import row_order, same_rows
 from tideweir.values.rows import column_index
 from tideweir.witnesses.places import events_of
 
 
 class Questions:
-    """The questions about one plan, some logs, and moves up to a time."""
+    """The questions about moves up to a time, for a plan, the fields of its nodes, and logs.
+
+    What answers them is gathered in found, a dict of places.
+    """
 
     def __init__(self, plan, fields, logs, time):
         self.plan = plan
-        # The fields of all nodes.
         self.fields = fields
         self.logs = logs
         self.time = time
         self.on_time = events_of(logs)
-        # What was found: a dict of places.
+        self.asked = {}
         self.found = {}
 
     def ask(self, node, asked):
         """Ask a node for its moves with values in some columns, a list of pairs; what answers is found."""
-        if is_contrary(asked):
+        question = (node, tuple([name for name, _ in asked]), row_order([value for _, value in asked]))
+        # A node may be reached in many ways; the same question finds nothing more.
+        if question in self.asked or is_contrary(asked):
             return
+        self.asked[question] = True
         operator, inputs = self.plan[node]
         if is_source(operator):
             self.answer_of_source(operator, asked)
