@@ -71,8 +71,9 @@ class PlainLies:
             if not all(type(lie) is tuple for lie in lies):
                 return None
             names = [[name for name, _ in self.fields[edge[0]]] for edge in self.edges_to(stage)]
-            return lies[0] if [names[0].index(name) for name in lies[0]] == [
-                names[1].index(name) for name in lies[1]] else None
+            # Only a graph that is refused has a lie of columns that are not there.
+            places = [[own.index(name) if name in own else None for name in lie] for own, lie in zip(names, lies)]
+            return lies[0] if places[0] == places[1] else None
         return lies[0]
 
     def told(self):

@@ -30,7 +30,7 @@ class PlainRescaled:
         """The task to which a row of a side goes."""
         edges = self.lies.edges_to(stage)
         lies = [self.lies.of_side(edge) for edge in edges]
-        operator, parallel, owners = self.stages[stage]
+        _, parallel, owners = self.stages[stage]
         if None in lies:
             marks = [self.mark_of((stage, task)) for task in range(parallel)]
             return marks.index(min(marks))

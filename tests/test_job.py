@@ -376,13 +376,13 @@ class ByChance(ExactCase):
 
     def test_there_is_a_choice_as_long_as_something_is_left(self):
         for seed in range(100):
-            numbers, job, plain = self.drawn(seed)
+            _, job, plain = self.drawn(seed)
             for _ in range(200):
                 left = sum(job.queues) > 0 or any(
                     read < len(plain.logs[plain.stages[stage][0][1]][partition])
                     for stage, partition, read in job.progress)
                 self.same(job.choices() != [], left)
-                # The last choice first: the sink takes as soon as it can, so that all channels fill up behind it.
+                # Where sources read whenever they can, all channels fill up; where the sink takes first, none does.
                 if left:
                     job.do(job.choices()[0 if seed % 2 else -1])
 

@@ -104,7 +104,7 @@ class Tells(ExactCase):
         for seed in range(100):
             numbers = generator_of_numbers(seed)
             plan, logs, flow = random_meaning(numbers)
-            for time, row, weight in rows_that_stand(numbers, plan, flow):
+            for time, row, _ in rows_that_stand(numbers, plan, flow):
                 places = [place for place in plain_events(logs) if numbers.random() < 0.7]
                 self.same(tells(plan, logs, places, time, row), plain_tells(plan, logs, places, time, row))
 

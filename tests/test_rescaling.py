@@ -171,8 +171,8 @@ class Rescaled(ExactCase):
             checkpoint = take(numbers, engine)
             told = rescale(graph, checkpoint, graph)
             self.same(told, PlainRescaled(checkpoint, graph).told())
-            if not any(lie is None for stage in range(len(graph[0]))
-                       for lie in [PlainRescaled(checkpoint, graph).lies.of_side(edge) for edge in graph[1]]):
+            lies = PlainRescaled(checkpoint, graph).lies
+            if None not in [lies.of_side(edge) for edge in graph[1]]:
                 self.same(told, checkpoint)
                 kept += 1
         self.assertGreater(kept, 20)

@@ -6,7 +6,7 @@ from tests.plain_meanings import plain_meaning, up_to
 from tests.plain_operators import plain_define
 from tests.random_graphs import (FIELDS_OF, partitions_wanted, random_entries, random_graph, random_logs,
                                  random_parallel)
-from tests.random_operators import LEFT, RIGHT, WORDS, EVENT_SIDES, random_operator, sides_of_word
+from tests.random_operators import LEFT, RIGHT, WORDS, random_operator, sides_of_word
 from tests.random_plans import SOURCES, random_plan
 from tests.random_shifts import go_on, other_graph, take
 from tests.support import ExactCase, generator_of_numbers
